@@ -52,7 +52,7 @@ func TestRight(t *testing.T) {
 		pages int
 		want  bool
 	}{
-		{nil, 0, true}, {nil, 1, true}, {[]api.Change{}, 7, true}, {nil, api.MaxPages, true},
+		{nil, 0, true}, {nil, 1, true}, {[]api.Change{}, 7, true}, {nil, api.MaxPages, true}, {nil, -1, true}, {nil, math.MinInt, true},
 		{nil, api.MaxPages + 1, false}, {[]api.Change{}, math.MaxInt, false},
 		{row(0), 1, true}, {row(0), 0, false}, {row(0), -1, false}, {row(0), math.MinInt, false},
 		{row(4), 5, true}, {row(5), 5, false}, {row(6), 5, false}, {row(-1), 5, false}, {row(math.MinInt), 5, false}, {row(math.MaxInt), 5, false},
