@@ -224,7 +224,7 @@ func TestParseOfOtherLines(t *testing.T) {
 
 func TestParseOfOtherLinesAheadOfRight(t *testing.T) {
 	// Each of these lines is none that Text writes: that comes ahead of what Right says of the others.
-	for _, line := range []string{"", "a", "a0", "a01", "a 0 1", "ab0 1", "aA 1", "\xff0 1", "\x800 1", "a/ 1", "a: 1", "a-1 1", "a00 1", "a10 1", "a0\t1", "0 1", " 0", "\ufffd 1", "\ufffd", "\xce0 1", "\xed\xa0\x800 1", "λ 1", "\xcea0 1"} {
+	for _, line := range []string{"", "a", "a0", "a01", "a 0 1", "ab0 1", "aA 1", "a/ 1", "a: 1", "a-1 1", "a00 1", "a10 1", "a0\t1", "0 1", " 0", "\ufffd 1", "\ufffd", "\xff", "\xff 1", "\xff0", "\xffa 1", "\xff\xff0 1", "\xed\xa0\x800 1", "\xe4\xb80 1", "\xf0\x9f\x980 1", "λ 1", "λ", "\xcea0 1", "a\xff0 1", "a\xff 1"} {
 		expectRefused(t, "unit 2 1\n"+line+"\n", api.ErrForm)
 		expectRefused(t, "unit 0 0\nb0 ¡1\n"+line+"\n", api.ErrForm)
 		expectRefused(t, "unit 0 0\n"+strings.Repeat("b0 1\n", 33)+line+"\n", api.ErrForm)
@@ -257,6 +257,28 @@ func TestParseTakesWhatRightRefuses(t *testing.T) {
 		{"a0 ", api.ErrStack}, {"a0  ", api.ErrStack}, {"a0 1 2", api.ErrStack}, {"a0 ¡1", api.ErrDead}, {"a0 λx", api.ErrNone}, {"a0 1\na0 1", api.ErrForm}, {"a0 1\nb0 ¡1\nc0 λx", api.ErrDead}, {"a0 1\nb0 ¡1\nc5 λx", api.ErrForm},
 	} {
 		expectRefused(t, "unit 0 0\n"+c.line+"\n", c.want)
+	}
+}
+
+// A byte that begins no rune is a Name of one rune, U+FFFD: the line is one, and Right's refusals come in their order.
+func TestParseOfABrokenName(t *testing.T) {
+	broken := []string{"\ufffd"}
+	for b := 0x80; b < 0x100; b++ {
+		broken = append(broken, string([]byte{byte(b)}))
+	}
+	for _, name := range broken {
+		line := name + "0 1\n"
+		expectRefused(t, "unit 2 1\n"+line, api.ErrSize)
+		expectRefused(t, "unit 0 65\n"+line, api.ErrSize)
+		expectRefused(t, "unit 2 1\na0 1\n"+line+"b0 1\n", api.ErrSize)
+		expectRefused(t, "unit 2 1\n"+name+"9 (\n", api.ErrSize)
+		expectRefused(t, "unit 0 0\n"+strings.Repeat(line, 33), api.ErrLong)
+		expectRefused(t, "unit 0 0\n"+strings.Repeat("a0 1\n", 32)+line, api.ErrLong)
+		expectRefused(t, "unit 0 0\n"+line, api.ErrForm)
+		expectRefused(t, "unit 0 0\n"+strings.Repeat(line, 32), api.ErrForm)
+		expectRefused(t, "unit 0 0\na0 ¡1\n"+line, api.ErrForm)
+		expectRefused(t, "unit 2 1\n"+line+"\n", api.ErrForm)
+		expectRefused(t, "unit 2 1\n"+strings.Repeat(line, 600), api.ErrLong)
 	}
 }
 
